@@ -1,0 +1,1 @@
+"""Strangerspost: rooms that talk sealed, over a post that a stranger leads."""
