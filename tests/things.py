@@ -58,3 +58,68 @@ def random_book(random, steps):
         else:
             book.put(kind, tuple(some[:1 if kind in ("lock", "print") else 2]))
     return book
+
+
+def wrong_bags(book):
+    """Things of many kinds that are no bag of terms of a book with a term."""
+    size = book.size()
+    return (
+        [], [0], {}, {0: 0}, "", b"", range(1), 0, -1, True, None, Book(), tuple, NoKind(), (size,), (0, size), (-1,),
+        (True,), (0, False), ((0,),), ([0],), ("0",), (b"0",), (None,), (10 ** 39,), (-10 ** 39,), (Book(),), deep(40),
+        [(0,)], (0, deep(38)),
+    )
+
+
+def knot(random, most):
+    """A small book of terms drawn by chance, many of them locked with others; some of its lock's places are no locks."""
+    book = Book()
+    for _ in range(random.randrange(1, 4)):
+        book.fresh()
+    while book.size() < most:
+        one, other = random.randrange(book.size()), random.randrange(book.size())
+        kind = random.choice(("fresh", "name", "row", "made", "lock", "box", "box", "chest", "chest", "mark", "print"))
+        if kind == "fresh":
+            book.fresh()
+        elif kind == "name":
+            book.put(kind, (random.choice("ab"),))
+        elif kind == "row":
+            book.put(kind, tuple([one, other, one][:random.randrange(4)]))
+        elif kind in ("lock", "print"):
+            book.put(kind, (one,))
+        elif kind == "box" and random.random() < 0.8:
+            book.put(kind, (book.put("lock", (one,)), other))
+        else:
+            book.put(kind, (one, other))
+    return book
+
+
+def drawn_bag(random, book, most=4):
+    """A bag of some terms of a book, perhaps some twice."""
+    return tuple([random.randrange(book.size()) for _ in range(random.randrange(most + 1))])
+
+
+def plainly_known(book, bag, near):
+    """What of near terms, and all within the bag, is known of a bag, by trying each rule until nothing is new."""
+    terms = book.within(bag + tuple(near))
+    known = set(bag)
+    grown = True
+    while grown:
+        count = len(known)
+        for term in terms:
+            kind, parts = book.kind(term), book.parts(term)
+            if kind in ("name", "number"):
+                known.add(term)
+            elif kind != "fresh" and set(parts) <= known:
+                known.add(term)
+            if term not in known:
+                continue
+            if kind == "row":
+                known.update(parts)
+            elif kind == "mark":
+                known.add(parts[1])
+            elif kind == "chest" and parts[0] in known:
+                known.add(parts[1])
+            elif kind == "box" and book.kind(parts[0]) == "lock" and book.parts(parts[0])[0] in known:
+                known.add(parts[1])
+        grown = len(known) > count
+    return known
