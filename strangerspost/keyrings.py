@@ -39,6 +39,6 @@ class EpochKeys:
         self.letters = made_term(book, "letters", self.key)
         self.seal = made_term(book, "seal", self.key)
 
-    def turns(self, book, leaves):
+    def first_turns(self, book, leaves):
         """The first turns of leaves, by the leaves."""
         return {leaf: first_turn(book, leaf, self.letters) for leaf in leaves}

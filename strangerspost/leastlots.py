@@ -40,13 +40,13 @@ def shrunk(lot, holds):
 
 def crossed(bars, waiting, lot):
     """The lots that wait to be bars, each least so, when they must have a number in common with one more lot."""
-    right = [bar for bar in waiting if any([at in lot for at in bar])]
-    wrong = [bar for bar in waiting if not any([at in lot for at in bar])]
+    right = [one for one in waiting if any([part in lot for part in one])]
+    wrong = [one for one in waiting if not any([part in lot for part in one])]
     lesser = bars + right
     found = list(right)
     for bar in wrong:
         for at in lot:
             wider = {**bar, at: True}
-            if not any([all([other in wider for other in least]) for least in lesser]):
+            if not any([all([part in wider for part in one]) for one in lesser]):
                 found.append(wider)
     return found

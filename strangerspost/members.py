@@ -65,8 +65,7 @@ class Room:
             self.been[-1] = (self.been[-1][0], letter)
         self.been.append((epoch.label, None))
         self.epochs.append(epoch)
-        if len(self.epochs) > keep + 1:
-            self.epochs = self.epochs[-1 - keep:]
+        self.epochs = self.epochs[-1 - keep:]
         self.chain, self.seal = chain, seal
         self.pending = None
 
@@ -86,13 +85,13 @@ class Member:
         self.marks = marks
         # Triples of the number in the post, the leaf's key and the entry's key.
         self.cards = []
-        self.rooms = {}
+        self.joined = {}
 
     def copy(self):
         """The same, going on apart."""
         other = Member(self.name, self.marks)
         other.cards = list(self.cards)
-        other.rooms = {name: self.rooms[name].copy() for name in self.rooms}
+        other.joined = {name: self.joined[name].copy() for name in self.joined}
         return other
 
     def store(self):
@@ -101,7 +100,7 @@ class Member:
         for number, key, entry in self.cards:
             found[key] = True
             found[entry] = True
-        for room in self.rooms.values():
+        for room in self.joined.values():
             for term in room.held_terms():
                 found[term] = True
         return tuple(sorted(found))

@@ -37,7 +37,7 @@ def taken(world, member, term):
 
 def come_to(world, room, keys, coming, letter):
     """The member of a room comes to an epoch: its keys are made of its epoch key, and most of them let go of."""
-    turns = keys.turns(world.book, members(coming.told_tree))
+    turns = keys.first_turns(world.book, members(coming.told_tree))
     number = world.ledger.epoch(keys, turns)
     epoch = Epoch(number, coming.label, coming.context, coming.tree, coming.told_tree)
     epoch.turns = {leaf: (0, turns[leaf]) for leaf in turns}
@@ -49,10 +49,10 @@ def come_to(world, room, keys, coming, letter):
 
 def taken_change(world, member, change):
     """What comes of a change's letter."""
-    now = [room for room in member.rooms.values() if room.own().label == change.label]
+    now = [room for room in member.joined.values() if room.own().label == change.label]
     if now:
         return judged_change(world, member, now[0], change)
-    for room in member.rooms.values():
+    for room in member.joined.values():
         for label, letter in room.been:
             if label == change.label:
                 return refused("old" if letter == change.letter else "fork")
@@ -64,7 +64,7 @@ def judged_change(world, member, room, change):
     book, epoch = world.book, room.own()
     leaves = epoch.told_tree.leaves
     maker = leaves[change.leaf] if is_below(len(leaves), change.leaf) else None
-    marks = world.marks()
+    marks = world.marks_keys()
     if maker is None or marks.get(maker[0]) != change.marks:
         return refused("mark")
     if not sealed_by(book, change, room.seal):
@@ -77,7 +77,7 @@ def judged_change(world, member, room, change):
     if boxed != plan.targets(change.leaf):
         return refused("path")
     if room.leaf in plan.removed:
-        del member.rooms[room.name]
+        del member.joined[room.name]
         return "out", room.name
     keys = path_keys(book, room, change)
     if keys is None:
@@ -143,7 +143,7 @@ def take_change(world, room, change, keys, coming):
 def taken_letter(world, member, letter):
     """What comes of a letter of words."""
     label, leaf, number = letter[0]
-    for room in member.rooms.values():
+    for room in member.joined.values():
         for epoch in room.epochs:
             # A leaf without a member has no row of keys, and nobody there writes letters.
             if epoch.label == label and leaf in epoch.turns:
@@ -167,7 +167,7 @@ def opened_letter(world, room, epoch, letter):
         right = made[-1][1]
     if key != right:
         return refused("chest")
-    words = told_words(book, content, world.marks()[epoch.told_tree.leaves[leaf][0]], place)
+    words = told_words(book, content, world.marks_keys()[epoch.told_tree.leaves[leaf][0]], place)
     if words is None:
         return refused("mark")
     for at, made_key, behind in made:
@@ -209,7 +209,7 @@ def taken_welcome(world, member, card, content):
         return refused("mark")
     joiner, way, leaf, maker, context, tree = told[1]
     name, number, tree_print, told_tree = about
-    if name in member.rooms:
+    if name in member.joined:
         return refused("room")
     if tree_print != print_term(book, tree) or not has_card(book, member, card, told_tree, leaf):
         return refused("tree")
@@ -219,7 +219,7 @@ def taken_welcome(world, member, card, content):
     held[(0, leaf)] = card[1]
     room = Room(name, leaf, held)
     member.cards = [other for other in member.cards if other != card]
-    member.rooms[name] = room
+    member.joined[name] = room
     come_to(world, room, EpochKeys(book, joiner, None), Entry(book, context, tree, told_tree), None)
     return "entered", name, number
 
@@ -240,7 +240,7 @@ def told_entry(world, told):
     about, tree = told_context(world.book, parts[4]), tree_of(world.book, parts[5])
     if about is None or tree is None or not is_word(about[0]) or about[1] > MOST_NUMBER:
         return None
-    known = world.marks()
+    known = world.marks_keys()
     if not all([leaf is None or leaf[0] in known for leaf in tree.leaves]):
         return None
     if parts[3] not in members(tree) or known[tree.leaves[parts[3]][0]] != marks:

@@ -63,7 +63,7 @@ class World:
         holder = self._member(member)
         if not is_word(room):
             raise NoName()
-        if room in holder.rooms:
+        if room in holder.joined:
             raise Named()
         book = self.book
         key, epoch_key = book.fresh(), book.fresh()
@@ -74,7 +74,7 @@ class World:
         founded = Room(room, 0, {(0, 0): key})
         come_to(self, founded, keys, Entry(book, context, tree, told_tree), None)
         self.ledger.give(("first", founded.own().number), key)
-        holder.rooms[room] = founded
+        holder.joined[room] = founded
         return self._hand_in(found_term(book, context, tree))
 
     def change(self, member, room, wishes):
@@ -126,7 +126,7 @@ class World:
     def leave(self, member, room):
         """A member lets go of all of a room."""
         holder = self._room(member, room)[0]
-        del holder.rooms[room]
+        del holder.joined[room]
 
     # Deeds of the stranger.
 
@@ -179,7 +179,7 @@ class World:
 
     def rooms(self, member):
         """The ascending list of the names of a member's rooms."""
-        return sorted(self._member(member).rooms)
+        return sorted(self._member(member).joined)
 
     def post(self):
         """The list of all that was handed in."""
@@ -201,7 +201,7 @@ class World:
         """Whether the stranger knows a term."""
         return self.knower.knows(term)
 
-    def marks(self):
+    def marks_keys(self):
         """The dict from the names of the members to the keys of their marks."""
         return {name: self.held[name].marks for name in self.names}
 
@@ -225,13 +225,13 @@ class World:
 
     def _room(self, member, room):
         holder = self._member(member)
-        if not isinstance(room, str) or room not in holder.rooms:
+        if not isinstance(room, str) or room not in holder.joined:
             raise NoRoom()
-        return holder, holder.rooms[room]
+        return holder, holder.joined[room]
 
     def _plan(self, room, wishes):
         told = posted_wishes(self.posted, wishes)
-        return wished(self.book, self.marks(), room.own().told_tree, room.leaf, told)
+        return wished(self.book, self.marks_keys(), room.own().told_tree, room.leaf, told)
 
     def _check_words(self, words):
         if words is not None and not is_name_text(words):
@@ -266,7 +266,7 @@ class World:
 
     def _hand_in_change(self, made):
         self.ledger.change(made.letter, made.path)
-        turns = made.epoch_keys.turns(self.book, members(made.coming.told_tree))
+        turns = made.epoch_keys.first_turns(self.book, members(made.coming.told_tree))
         self.ledger.epoch(made.epoch_keys, turns)
         return tuple([self._hand_in(term) for term in [made.letter] + made.welcomes])
 

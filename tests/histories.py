@@ -184,7 +184,7 @@ class History:
         tree = own.own().told_tree
         cards = [("add", term) for term in world.post() if told_card(world.book, term)]
         wishes = tuple([chance.choice(cards)] if cards and chance.random() < 0.5 else [])
-        plan = wished(world.book, world.marks(), tree, own.leaf, wishes)
+        plan = wished(world.book, world.marks_keys(), tree, own.leaf, wishes)
         made = Made(world.book, world.held[maker].marks, own, plan, self.some_key())
         told = []
         for term in [made.letter] + made.welcomes:
@@ -216,7 +216,7 @@ def sound(world):
     """Whether what each member holds fits together."""
     book = world.book
     for member in world.held.values():
-        for room in member.rooms.values():
+        for room in member.joined.values():
             epoch = room.own()
             tree = epoch.told_tree
             nodes = {node: lock for node, lock, aside in tree.nodes}

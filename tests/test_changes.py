@@ -26,7 +26,7 @@ class TermsTest(WorldCase):
         hand = Hand(world)
         self.assertEqual(world.found("b", "room"), 0)
         number, context, tree, seal, leaf = world.view("b", "room")
-        room = world.held["b"].rooms["room"]
+        room = world.held["b"].joined["room"]
         book = world.book_now()
         key = room.held[(0, 0)]
         self.assertEqual((number, leaf, book.kind(key), room.held), (0, 0, "fresh", {(0, 0): key}))
@@ -43,7 +43,7 @@ class TermsTest(WorldCase):
     def test_an_empty_change(self):
         world = World(("a",), 2, 1)
         world.found("a", "r")
-        room = world.held["a"].rooms["r"]
+        room = world.held["a"].joined["r"]
         chain = room.chain
         (number,) = world.change("a", "r", ())
         start = room.pending[1]
@@ -56,7 +56,7 @@ class TermsTest(WorldCase):
 
     def holds(self, world, member, name, plain, held):
         """A member has come to the epoch of a change, and holds these keys of nodes."""
-        hand, room = Hand(world), world.held[member].rooms[name]
+        hand, room = Hand(world), world.held[member].joined[name]
         number, context, tree, seal, leaf = world.view(member, name)
         self.assertEqual(context, plain["context"])
         self.assertEqual(tree, tree_of(world.book_now(), plain["tree"]))
@@ -80,14 +80,14 @@ class TermsTest(WorldCase):
         handed(world, world.change("b", "r", ()))
         cards = [world.card("a"), world.card("d"), world.card("e")]
         wishes = (("add", cards[1]), ("remove", 3), ("add", cards[2]), ("remove", 4))
-        chain = world.held["c"].rooms["r"].chain
+        chain = world.held["c"].joined["r"].chain
         numbers = world.change("c", "r", wishes)
         post = world.post()
         terms = tuple([(word, post[of] if word == "add" else of) for word, of in wishes])
-        plain = plain_change(world, "c", "r", terms, world.held["c"].rooms["r"].pending[1], chain)
+        plain = plain_change(world, "c", "r", terms, world.held["c"].joined["r"].pending[1], chain)
         self.assertEqual([post[number] for number in numbers], [plain["letter"]] + plain["welcomes"])
         self.assertEqual(len(numbers), 3)
-        ahead = {name: dict(world.held[name].rooms["r"].held) for name in names}
+        ahead = {name: dict(world.held[name].joined["r"].held) for name in names}
         self.assertEqual(handed(world, numbers[:1], "d", "e", "a", "b", "c"), [
             ("out", "r"), ("out", "r"), ("changed", "r", 6), ("changed", "r", 6), ("changed", "r", 6)])
         self.assertEqual(world.rooms("d"), [])
@@ -107,9 +107,9 @@ class TermsTest(WorldCase):
         world = room_of("abc")
         makers = ("c", "a", "b", "b", "c")
         for at, maker in enumerate(makers):
-            chain = world.held[maker].rooms["r"].chain
+            chain = world.held[maker].joined["r"].chain
             (number,) = world.change(maker, "r", ())
-            plain = plain_change(world, maker, "r", (), world.held[maker].rooms["r"].pending[1], chain)
+            plain = plain_change(world, maker, "r", (), world.held[maker].joined["r"].pending[1], chain)
             self.assertEqual(world.post()[number], plain["letter"])
             self.assertEqual(handed(world, (number,)), [("changed", "r", 3 + at)] * 3)
             for name in "abc":
@@ -135,10 +135,10 @@ class TermsTest(WorldCase):
                 member = history.member()
                 room = history.room(member)
                 if history.chance.random() < 0.3 and room in world.rooms(member):
-                    chain = world.held[member].rooms[room].chain
+                    chain = world.held[member].joined[room].chain
                     numbers = history.rightly(world.change, member, room)
                     post = world.post()
-                    letter = world.held[member].rooms[room].pending
+                    letter = world.held[member].joined[room].pending
                     wishes = self.wishes_of(world, letter[0])
                     plain = plain_change(world, member, room, wishes, letter[1], chain)
                     self.assertEqual([post[number] for number in numbers], [plain["letter"]] + plain["welcomes"])
@@ -163,13 +163,13 @@ class WhoGetsItTest(WorldCase):
         world = room_of("abcd")
         handed(world, world.change("b", "r", ()))
         world.steal("c")
-        before = world.held["c"].rooms["r"].copy()
+        before = world.held["c"].joined["r"].copy()
         (number,) = world.change("a", "r", (("remove", 2),))
         self.assertEqual(handed(world, (number,)), [
             ("changed", "r", 5), ("changed", "r", 5), ("out", "r"), ("changed", "r", 5)])
         self.assertIsNotNone(before)
         for name in "abd":
-            room = world.held[name].rooms["r"]
+            room = world.held[name].joined["r"]
             self.assertFalse(world.knows(room.chain))
             self.assertFalse(world.knows(room.seal))
             for place, turn in room.epochs[-1].turns.values():
@@ -191,7 +191,7 @@ class WhoGetsItTest(WorldCase):
                 (number,) = world.change(maker, "r", wishes)
                 boxes = self.boxes(world, world.post()[number])
                 for name in there:
-                    held = [Hand(world).lock(key) for key in world.held[name].rooms["r"].held.values()]
+                    held = [Hand(world).lock(key) for key in world.held[name].joined["r"].held.values()]
                     fits = [box for box in boxes if box in held]
                     out = [tree.leaves[leaf][0] for word, leaf in wishes]
                     self.assertEqual(len(fits), 0 if name == maker or name in out else 1)

@@ -16,10 +16,10 @@ class LettersCase(WorldCase):
         return book.parts(world.view(member, room)[3])[1]
 
     def turns(self, world, member, room="r", back=1):
-        return world.held[member].rooms[room].epochs[-back].turns
+        return world.held[member].joined[room].epochs[-back].turns
 
     def kept(self, world, member, leaf, room="r", back=1):
-        return world.held[member].rooms[room].epochs[-back].kept[leaf]
+        return world.held[member].joined[room].epochs[-back].kept[leaf]
 
 
 class WritingTest(LettersCase):
@@ -121,15 +121,15 @@ class EpochsTest(LettersCase):
             for _ in range(4):
                 numbers.append(world.write("a", "r", None)[0])
                 handed(world, world.change("b", "r", ()))
-            self.assertEqual(len(world.held["b"].rooms["r"].epochs), min(keep + 1, 5))
-            self.assertEqual(len(world.held["a"].rooms["r"].epochs), min(keep + 1, 6))
+            self.assertEqual(len(world.held["b"].joined["r"].epochs), min(keep + 1, 5))
+            self.assertEqual(len(world.held["a"].joined["r"].epochs), min(keep + 1, 6))
             told = [world.hand(number, "b")[0:2] for number in numbers]
             gone = max(0, 4 - keep)
             self.assertEqual(told, [UNLIKE] * gone + [("words", "r")] * (4 - gone))
 
     def test_what_is_held_of_elder_epochs(self):
         world = room_of("ab", 2, 1)
-        room = world.held["b"].rooms["r"]
+        room = world.held["b"].joined["r"]
         number, context, tree, seal, leaf = world.view("b", "r")
         chain, elder = room.chain, room.own()
         number = world.write("a", "r", None)[0]
@@ -277,7 +277,7 @@ class AgreementTest(LettersCase):
         there = {}
         for name in world.names:
             for room in world.rooms(name):
-                held = world.held[name].rooms[room]
+                held = world.held[name].joined[room]
                 told = (world.view(name, room)[2:4], held.chain)
                 for epoch in held.epochs:
                     for leaf, (place, turn) in epoch.turns.items():
@@ -296,7 +296,7 @@ class AgreementTest(LettersCase):
                 told = apart.hand(number, name)
                 if told[0] == "words":
                     self.assertEqual(told[3], words)
-                    labels = [epoch.label for room in world.held[name].rooms.values() for epoch in room.epochs]
+                    labels = [epoch.label for room in world.held[name].joined.values() for epoch in room.epochs]
                     self.assertIn(label, labels)
 
 

@@ -212,6 +212,8 @@ class AskingTest(RuleCase):
                 (list(other), origin), (None, origin), (other, (None, 0)), (other, ("ground", None)),
             ):
                 self.assertFalse(judged(way[:at] + (wrong,) + way[at + 1:]), wrong)
+        self.assertFalse(judged(((A, ("clause", 3)),), (0,), A))
+        self.assertFalse(judged(((E, ("ground", 0)),), (0,), E))
         # Flags are no numbers.
         self.assertTrue(judged(((A, ("ground", 0)),), (0,), A))
         self.assertFalse(judged(((A, ("ground", False)),), (0,), A))

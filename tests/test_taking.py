@@ -18,7 +18,7 @@ class ChangeCase(WorldCase):
         self.world.steal("c")
         self.hand = Hand(self.world)
         self.start = self.world.fresh()
-        self.room = self.world.held["c"].rooms["r"]
+        self.room = self.world.held["c"].joined["r"]
         self.plain = plain_change(self.world, "c", "r", (), self.start, self.room.chain)
         self.book = self.world.book_now()
         self.marked, self.sealed, self.behind = self.book.parts(self.plain["letter"])
@@ -103,7 +103,8 @@ class ChangedTest(ChangeCase):
         other = self.letter(self.otherwise(4, hand.lock(world.fresh())))
         marked = world.book_now().parts(other)[0]
         for sealed in (self.sealed, hand.print(marked), hand.print(hand.row(marked, self.room.seal)), hand.print(hand.row(
-                self.room.seal, marked, marked)), hand.print(self.room.seal)):
+                self.room.seal, marked, marked)), hand.print(self.room.seal), hand.print(hand.chest(
+                    self.room.seal, marked)), hand.print(hand.mark(self.room.seal, marked))):
             self.refused("seal", hand.row(marked, sealed, self.behind))
 
     def wished(self, *wishes):
@@ -206,7 +207,7 @@ class ChangedTest(ChangeCase):
         letter = hand.row(marked, hand.print(hand.row(self.room.seal, marked)), hand.print(context))
         self.comes(("changed", "r", 5), letter)
         self.refused("box", letter, "d")
-        held = world.held["a"].rooms["r"].held
+        held = world.held["a"].joined["r"].held
         self.assertEqual(sorted(held), [(0, 0), (2, 0)])
         self.assertEqual(held[(2, 0)], self.plain["keys"][2])
 
@@ -309,7 +310,7 @@ class WelcomeTest(WelcomeCase):
         epoch_key = hand.made("epoch", self.joiner)
         number, context, tree, seal, leaf = world.view("a", "r")
         self.assertEqual((number, context, seal, leaf), (7, self.context(self.tree()), hand.made("seal", epoch_key), 1))
-        room = world.held["a"].rooms["r"]
+        room = world.held["a"].joined["r"]
         self.assertEqual(room.held, {(0, 1): self.key, (2, 0): hand.made("node", self.ways[2])})
         self.assertEqual(room.own().turns, {1: (0, hand.turn(1, 0, epoch_key)), 3: (0, hand.turn(3, 0, epoch_key))})
         self.assertEqual(world.held["a"].cards, [])
@@ -392,7 +393,7 @@ class WelcomeTest(WelcomeCase):
         # What is below the meeting, and who else is aside, is not asked.
         nodes = {(1, 0): (self.start, [1]), (2, 0): (self.locks[2], [3])}
         self.comes(("entered", "r", 7), self.box(self.parts(self.tree(nodes=nodes))))
-        self.assertEqual(sorted(world.held["a"].rooms["r"].held), [(0, 1), (2, 0)])
+        self.assertEqual(sorted(world.held["a"].joined["r"].held), [(0, 1), (2, 0)])
 
     def test_meeting_below_the_root(self):
         hand, world = self.hand, self.world
@@ -409,7 +410,7 @@ class WelcomeTest(WelcomeCase):
             self.comes(("refused", "tree"), told(nodes))
         right = {(1, 1): (self.locks[1], [2]), (2, 0): (self.locks[2], [2])}
         self.comes(("entered", "r", 7), told(right))
-        self.assertEqual(world.held["a"].rooms["r"].held, {
+        self.assertEqual(world.held["a"].joined["r"].held, {
             (0, 3): self.key, (1, 1): hand.made("node", self.ways[1]), (2, 0): hand.made("node", self.ways[2])})
 
     def test_a_welcome_of_its_own_making(self):
@@ -435,6 +436,18 @@ class WelcomeTest(WelcomeCase):
         tree = self.tree(leaves)
         box = self.box(self.parts(tree, self.context(tree, "s")), lock=hand.lock(second[2]))
         self.comes(("entered", "s", 7), box)
+
+
+class LocksAlikeTest(WelcomeCase):
+
+    def test_a_change_at_the_own_leaf_that_another_leaf_s_lock_opens(self):
+        # b's leaf has a's lock; so a could open what is boxed to b, but gets no key of its own leaf by that.
+        hand, world = self.hand, self.world
+        leaves = [("b", self.leaf_lock)] + self.leaves[1:]
+        self.comes(("entered", "r", 7), self.box(self.parts(self.tree(leaves))))
+        world.steal("a")
+        (number,) = world.change_as("a", "r", ())
+        self.assertEqual(world.hand(number, "a"), ("refused", "box"))
 
 
 class TwoWorldsTest(WorldCase):

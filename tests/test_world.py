@@ -4,6 +4,7 @@ import unittest
 
 from strangerspost import world as world_file
 from strangerspost.books import Book
+from strangerspost.changing import removals
 from strangerspost.errors import (
     BadWish, BadWorld, Named, NoKind, NoLetter, NoName, NoParts, NoRoom, NoTerm, NoWords, PostError, Unknown,
 )
@@ -130,7 +131,7 @@ class ErrorsTest(WorldCase):
             self.refuses(NoTerm, world, world.knows, term)
         self.refuses(Unknown, world, world.hand_term, world.store("a")[0], "a")
         lock = Hand(world).lock(world.store("a")[0])
-        secret = Hand(world).row(lock, world.held["a"].rooms["r"].seal)
+        secret = Hand(world).row(lock, world.held["a"].joined["r"].seal)
         self.refuses(Unknown, world, world.hand_term, secret, "b")
 
     def test_put(self):
@@ -165,7 +166,7 @@ class WishesTest(WorldCase):
     def test_no_such_pairs(self):
         right = (("remove", 1), ("add", self.cards["d"]))
         for wish in (
-            (), ("remove",), ("remove", 2, 0), ["remove", 2], "remove", None, 0, ("Remove", 2), ("", 2), (b"remove", 2),
+            (), ("remove",), ("remove", 2, 0), ["remove", 2], "remove", None, 0, ("Remove", 2), ("Add", self.cards["d"]), ("", 2), (b"remove", 2),
             (0, 2), ("remove", True), ("remove", "2"), ("remove", None), ("remove", (2,)), ("remove", -1), ("remove", 4),
             ("remove", 10 ** 39), ("add",), ("add", -1), ("add", 10 ** 39), ("add", None), ("add", True), ("add", "0"),
             ("add", [0]), ("add", len(self.world.post())), ("remove", deep(38)), deep(39), (None, None), (("remove", 2),),
@@ -208,6 +209,10 @@ class WishesTest(WorldCase):
         right = hand.card(marks, "d", one, one)
         world.posted.append(right)
         self.assertEqual(len(world.change("a", "r", (("add", len(world.posted) - 1),))), 2)
+
+    def test_a_term_s_number_is_no_leaf(self):
+        tree = self.world.view("a", "r")[2]
+        self.assertEqual(removals(tree, 0, (("add", 1), ("remove", 2), None, ("add", 2))), ({2: True}, {1: True}))
 
     def test_names_that_are_there(self):
         cards = self.cards
@@ -266,12 +271,12 @@ class DeedsTest(WorldCase):
     def test_a_change_in_the_place_of_a_pending_one(self):
         world = room_of("ab")
         (first,) = world.change("a", "r", ())
-        start = world.held["a"].rooms["r"].pending[1]
+        start = world.held["a"].joined["r"].pending[1]
         (second,) = world.change("a", "r", ())
         self.assertNotIn(start, world.store("a"))
         self.assertEqual(handed(world, (first,), "a"), [("refused", "box")])
         self.assertEqual(handed(world, (second,), "a", "b"), [("changed", "r", 2)] * 2)
-        self.assertIsNone(world.held["a"].rooms["r"].pending)
+        self.assertIsNone(world.held["a"].joined["r"].pending)
 
     def test_a_fork(self):
         world = room_of("abc")
@@ -318,7 +323,7 @@ class DeedsTest(WorldCase):
         self.assertEqual(handed(world, numbers), [
             ("changed", "r", 3), ("refused", "unlike"), ("refused", "unlike"), ("entered", "r", 3)])
         # It remembers nothing of the epochs ahead.
-        self.assertEqual(len(world.held["b"].rooms["r"].been), 1)
+        self.assertEqual(len(world.held["b"].joined["r"].been), 1)
         self.assertEqual(world.hand(numbers[0], "b"), ("refused", "unlike"))
 
     def test_thefts(self):
@@ -358,7 +363,7 @@ class DeedsTest(WorldCase):
     def test_stores_ahead_of_and_behind_each_deed(self):
         world = room_of("ab", 2, 0)
         one = set(world.store("a"))
-        room = world.held["a"].rooms["r"]
+        room = world.held["a"].joined["r"]
         number, words = world.write("a", "r", None)
         hand = Hand(world)
         turn = room.epochs[-1].turns[0][1]
@@ -413,7 +418,7 @@ class StrangersDeedsTest(WorldCase):
         stores = [world.store(name) for name in "abc"]
         numbers = world.change_as("b", "r", (("remove", 2), ("add", card)))
         self.assertEqual([world.store(name) for name in "abc"], stores)
-        self.assertIsNone(world.held["b"].rooms["r"].pending)
+        self.assertIsNone(world.held["b"].joined["r"].pending)
         self.assertEqual(handed(world, numbers, "a", "b", "c"), [
             ("changed", "r", 3), ("refused", "box"), ("out", "r"),
             ("refused", "unlike"), ("refused", "unlike"), ("entered", "r", 3)])
@@ -439,7 +444,7 @@ class StrangersDeedsTest(WorldCase):
         self.assertEqual(handed(world, (number,), "a", "c"), [("words", "r", 1, words)] * 2)
         hand = Hand(world)
         label = hand.print(world.view("b", "r")[1])
-        turn = world.held["b"].rooms["r"].own().turns[1][1]
+        turn = world.held["b"].joined["r"].own().turns[1][1]
         letter = hand.letter(label, 1, 1, hand.made("key", turn), world.held["b"].marks, words)
         self.assertEqual(world.post()[number], letter)
         second, text = world.write_as("b", "r", "text")
@@ -447,9 +452,25 @@ class StrangersDeedsTest(WorldCase):
         self.assertEqual(handed(world, (second,), "a", "b", "a"), [("refused", "gone"), ("words", "r", 1, text)] + [
             ("refused", "gone")])
 
+    def test_write_as_with_the_key_alone(self):
+        world = room_of("ab")
+        turn = world.held["b"].joined["r"].own().turns[1][1]
+        # No theft tells so little; so the stranger learns it otherwise here.
+        world.knower.learn(world.held["b"].marks)
+        self.refuses(Unknown, world, world.write_as, "b", "r", None)
+        hand = Hand(world)
+        hand.made("key", world.fresh())
+        self.refuses(Unknown, world, world.write_as, "b", "r", None)
+        key = hand.made("key", turn)
+        self.refuses(Unknown, world, world.write_as, "b", "r", None)
+        world.knower.learn(key)
+        self.assertFalse(world.knows(turn))
+        number, words = world.write_as("b", "r", None)
+        self.assertEqual(world.hand(number, "a"), ("words", "r", 1, words))
+
     def test_handing_what_is_made_up(self):
         world = room_of("ab")
-        secret = world.put("row", (world.held["a"].rooms["r"].seal,))
+        secret = world.put("row", (world.held["a"].joined["r"].seal,))
         self.refuses(Unknown, world, world.hand_term, secret, "b")
         world.steal("a")
         self.assertEqual(world.hand_term(secret, "b"), ("refused", "unlike"))

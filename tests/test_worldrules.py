@@ -125,12 +125,12 @@ class NamesTest(WorldCase):
         world = World(("a", "b"), 2, 1)
         world.card("b")
         world.found("a", "r")
-        key = world.held["a"].rooms["r"].held[(0, 0)]
+        key = world.held["a"].joined["r"].held[(0, 0)]
         leaf, entry = world.held["b"].cards[0][1:]
-        chain = world.held["a"].rooms["r"].chain
-        seal = world.held["a"].rooms["r"].seal
+        chain = world.held["a"].joined["r"].chain
+        seal = world.held["a"].joined["r"].seal
         numbers = world.change("a", "r", (("add", 0),))
-        start = world.held["a"].rooms["r"].pending[1]
+        start = world.held["a"].joined["r"].pending[1]
         handed(world, numbers)
         number, words = world.write("b", "r", None)
         world.write("b", "r", "text")
@@ -277,7 +277,7 @@ class StrangersNamesTest(WorldCase):
         world.steal("b")
         hand = Hand(world)
         number, context, tree, seal, own = world.view("b", "r")
-        room = world.held["b"].rooms["r"]
+        room = world.held["b"].joined["r"]
         start, other = world.fresh(), world.fresh()
         node = hand.lock(hand.made("node", start))
         box = hand.box(tree.leaves[0][1], start)
@@ -303,7 +303,7 @@ class StrangersNamesTest(WorldCase):
         world.steal("b")
         hand = Hand(world)
         number, context, tree, seal, own = world.view("b", "r")
-        room = world.held["b"].rooms["r"]
+        room = world.held["b"].joined["r"]
         start, other = room.chain, world.fresh()
         node = hand.lock(hand.made("node", start))
         levels = hand.row(hand.row(node, hand.row(hand.box(tree.leaves[0][1], start))))
@@ -407,6 +407,28 @@ class MainFactTest(WorldCase):
                 for call, lots in ((hangs, right), (would_bar, walls)):
                     least = [lot for lot in lots if not any([set(other) < set(lot) for other in lots])]
                     self.assertEqual(call(world, name), least)
+
+
+class CopiesTest(WorldCase):
+
+    def told(self, world):
+        rule = rule_of(world)
+        return names(world), known(world), rule.clauses, rule.grounds, seen_words(world), [
+            reach(world, theft) for theft in range(len(world.ledger.thefts))]
+
+    def test_copies_tell_the_same_and_go_on_apart(self):
+        for seed in range(20):
+            one = History(random.Random(seed), ("a", "b", "c"), True)
+            world = one.go(50)
+            before = self.told(world)
+            two = History(random.Random(seed), ("a", "b", "c"), True)
+            two.world = world.copy()
+            self.assertEqual(self.told(two.world), before)
+            two.go(40)
+            self.assertEqual(self.told(world), before)
+            after = self.told(two.world)
+            one.go(40)
+            self.assertEqual(self.told(two.world), after)
 
 
 class AskingTest(WorldCase):
