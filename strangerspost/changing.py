@@ -105,14 +105,14 @@ class Made:
         body = body_term(book, epoch.label, room.leaf, plan.wishes, self.path.locks, boxes)
         marked = mark_term(book, marks, body)
         self.coming = Coming(book, epoch, plan.tree, room.leaf, self.path.locks, next_trail(book, trail, marked))
-        self.epoch_keys = self.coming.epoch_keys(book, room.chain, self.path.root)
+        self.keyring = self.coming.epoch_keys(book, room.chain, self.path.root)
         self.letter = row_term(book, (marked, seal_print(book, room.seal, marked), self.coming.label))
         self.welcomes = [self.welcome(book, marks, leaf, plan.added[leaf]) for leaf in plan.added]
 
     def welcome(self, book, marks, leaf, entry):
         """The welcome for the member at a leaf, boxed with its entry's lock."""
         way = self.path.way(meeting(self.coming.told_tree, leaf, self.leaf)[0])
-        parts = (self.epoch_keys.joiner, way, leaf, self.leaf, self.coming.context, self.coming.tree)
+        parts = (self.keyring.joiner, way, leaf, self.leaf, self.coming.context, self.coming.tree)
         return box_term(book, entry, welcome_term(book, marks, parts))
 
 

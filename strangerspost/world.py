@@ -266,8 +266,8 @@ class World:
 
     def _hand_in_change(self, made):
         self.ledger.change(made.letter, made.path)
-        turns = made.epoch_keys.first_turns(self.book, members(made.coming.told_tree))
-        self.ledger.epoch(made.epoch_keys, turns)
+        turns = made.keyring.first_turns(self.book, members(made.coming.told_tree))
+        self.ledger.epoch(made.keyring, turns)
         return tuple([self._hand_in(term) for term in [made.letter] + made.welcomes])
 
     def _hand_in_letter(self, holder, room, key, words, term):

@@ -187,6 +187,44 @@ class LanguageTest(unittest.TestCase):
                     for error in caught:
                         self.assertNotIn(error.id, ("Exception", "TypeError", "ArithmeticError", "RuntimeError"), path)
 
+    def test_attributes(self):
+        barred = """items keys values pop update append clear extend insert remove reverse setdefault sort args encode decode
+            hex fromhex format""".split()
+        for path, tree in trees():
+            for top in [node for node in ast.walk(tree) if isinstance(node, ast.ClassDef)]:
+                methods = [node.name for node in top.body if isinstance(node, ast.FunctionDef)]
+                self.assertEqual(len(methods), len(set(methods)), (path, top.name))
+                for node in ast.walk(top):
+                    if isinstance(node, ast.Attribute) and isinstance(node.ctx, ast.Store):
+                        self.assertNotIn(node.attr, barred, (path, node.lineno))
+                        self.assertNotIn(node.attr, methods, (path, node.lineno))
+
+    def test_no_name_is_a_method_here_and_an_attribute_there(self):
+        methods, attributes = set(), set()
+        for _, tree in trees():
+            for node in ast.walk(tree):
+                if isinstance(node, ast.ClassDef):
+                    methods.update([part.name for part in node.body if isinstance(part, ast.FunctionDef)])
+                if isinstance(node, ast.Attribute) and isinstance(node.ctx, ast.Store):
+                    attributes.add(node.attr)
+        self.assertEqual(methods & attributes, set())
+
+    def test_stars_is_and_raise(self):
+        for path, tree in trees():
+            for node in ast.walk(tree):
+                place = (path, getattr(node, "lineno", 0))
+                if isinstance(node, ast.Call):
+                    for given in node.args:
+                        if isinstance(given, ast.Starred):
+                            self.assertIsInstance(given.value, (ast.Name, ast.Attribute), place)
+                if isinstance(node, ast.Compare) and isinstance(node.ops[0], (ast.Is, ast.IsNot)):
+                    self.assertIsInstance(node.comparators[0], ast.Constant, place)
+                if isinstance(node, ast.Raise) and node.exc is not None:
+                    self.assertIsInstance(node.exc, ast.Call, place)
+                if isinstance(node, ast.BinOp) and isinstance(node.op, ast.Pow):
+                    self.assertIsInstance(node.right, ast.Constant, place)
+                self.assertNotIsInstance(node, ast.Global, place)
+
     def test_words(self):
         for path in files():
             kept = [row.split("#")[0] for row in path.read_text().split("\n")]

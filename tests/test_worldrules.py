@@ -6,6 +6,8 @@ import unittest
 from strangerspost import worldrules
 from strangerspost.errors import NoEpoch, NoFact, NoName, NoTheft, TooMany
 from strangerspost.knowing import learner, opened
+from strangerspost.leading import least_of
+from strangerspost.ledger import Ledger
 from strangerspost.papers import bar, is_bar, is_steps, steps
 from strangerspost.rules import Rule, closed, held, is_closed, is_reasons, reasons
 from strangerspost.world import World
@@ -243,7 +245,8 @@ class StrangersNamesTest(WorldCase):
         start, joiner = world.fresh(), world.fresh()
         hidden = hand.print(world.held["b"].marks) if secret else hand.name("begin")
         ways = hand.up(start, 1)
-        tree = hand.tree(1, [("a", hand.lock(key)), ("b", hand.lock(start))], {(1, 0): (hand.lock(hand.made("node", ways[1])), [])})
+        nodes = {(1, 0): (hand.lock(hand.made("node", ways[1])), [])}
+        tree = hand.tree(1, [("a", hand.lock(key)), ("b", hand.lock(hidden))], nodes)
         context = hand.context("r", 3, tree, hidden)
         row = hand.row("welcome", joiner, ways[1], hand.number(0), hand.number(1), context, tree)
         box = hand.box(hand.lock(entry), hand.mark(world.held["b"].marks, row))
@@ -264,12 +267,18 @@ class StrangersNamesTest(WorldCase):
     def test_other_terms(self):
         world, context, tree, node = self.made_up_room(True)
         world.steal("a")
-        self.assertEqual(term_of(world, ("other", 0)), context)
-        self.assertNotIn(("other", 1), names(world))
-        self.assertEqual(hangs(world, ("other", 0)), [(0,), (1,)])
+        others = sorted((context, tree))
+        self.assertEqual([term_of(world, ("other", at)) for at in (0, 1)], others)
+        self.assertNotIn(("other", 2), names(world))
+        for at in (0, 1):
+            self.assertEqual(hangs(world, ("other", at)), [(0,), (1,)])
         world.steal("a")
-        self.assertNotIn(("other", 1), names(world))
-        self.assertIn(("other", 0), rule_of(world).grounds[3])
+        self.assertNotIn(("other", 2), names(world))
+        self.assertTrue({("other", 0), ("other", 1)} <= set(rule_of(world).grounds[3]))
+        # What is known openly later keeps its name.
+        world.hand_term(tree, "a")
+        self.assertEqual([term_of(world, ("other", at)) for at in (0, 1)], others)
+        self.assertEqual(hangs(world, ("other", others.index(tree))), [()])
 
     def test_a_change_that_nobody_made(self):
         # The stranger boxes p(1) alone to a: p(0) and k(0) are nobody's, so they have no names.
@@ -409,6 +418,93 @@ class MainFactTest(WorldCase):
                     self.assertEqual(call(world, name), least)
 
 
+class LeadingTest(WorldCase):
+
+    def leads(self, world, lot, head):
+        """Whether names lead to another one, by trying each rule until nothing is new."""
+        book = world.book
+        told = by_terms(world)
+        goal = term_of(world, head)
+        have = set(world.openly.bag()) | {term_of(world, name) for name in lot}
+        barred = {term for term in told if not world.openly.knows(term) and term not in have and term != goal}
+        near = book.within(tuple(have) + (goal,))
+        led = set(have)
+        grown = True
+        while grown:
+            count = len(led)
+            for term in near:
+                kind, parts = book.kind(term), book.parts(term)
+                found = []
+                if kind in ("name", "number") or (kind != "fresh" and set(parts) <= led):
+                    found.append(term)
+                if term in led and kind == "row":
+                    found.extend(parts)
+                elif term in led and kind in ("mark", "chest", "box"):
+                    key = parts[0] if kind == "chest" else None
+                    if kind == "box" and book.kind(parts[0]) == "lock":
+                        key = book.parts(parts[0])[0]
+                    if kind == "mark" or key in led:
+                        found.append(parts[1])
+                led.update([part for part in found if part not in barred])
+            grown = len(led) > count
+        return goal in led
+
+    def test_beside_a_plain_trial(self):
+        count = 0
+        for seed in range(60):
+            history = History(random.Random(seed), ("a", "b", "c")[:2 + seed % 2], True)
+            world = history.go(45)
+            clauses = rule_of(world).clauses
+            openly = [name for name in names(world) if world.openly.knows(term_of(world, name))]
+            self.assertEqual(rule_of(world).grounds[0], tuple(openly))
+            secret = [name for name in names(world) if name not in openly]
+            for body, head in history.chance.sample(clauses, min(12, len(clauses))):
+                self.assertTrue(self.leads(world, body, head))
+                for name in body:
+                    self.assertFalse(self.leads(world, [other for other in body if other != name], head))
+                count += 1
+            for _ in range(10 if len(secret) > 4 else 0):
+                lot = history.chance.sample(secret, 3)
+                head = lot.pop()
+                covered = any([other == head and set(body) <= set(lot) for body, other in clauses])
+                self.assertIs(self.leads(world, lot, head), covered)
+        self.assertGreater(count, 300)
+
+    def test_least_lots(self):
+        self.assertEqual(least_of([]), [])
+        self.assertEqual(least_of([3, 1, 2, 1, 6]), [1, 2])
+        self.assertEqual(least_of([6, 5, 3]), [6, 5, 3])
+        self.assertEqual(least_of([7, 6, 5, 0]), [0])
+
+    def test_a_lesser_lot_found_late(self):
+        # A chest with two keys, one within the other, holds the marks' key of a; another way to it needs one alone.
+        world = room_of("ab")
+        world.steal("b")
+        world.steal("a")
+        hand = Hand(world)
+        chain, seal = term_of(world, ("chain", 1)), term_of(world, ("seal", 1))
+        goal = world.held["a"].marks
+        both = hand.chest(chain, hand.chest(seal, goal))
+        world.hand_term(both, "a")
+        self.assertIn(((("chain", 1), ("seal", 1)), ("mark", 0)), rule_of(world).clauses)
+        way = seal
+        for _ in range(5):
+            other = world.fresh()
+            world.hand_term(hand.chest(way, hand.mark(other, hand.row(hand.print(way), other))), "a")
+            way = hand.print(way)
+        world.hand_term(hand.chest(way, goal), "a")
+        clauses = [clause for clause in rule_of(world).clauses if clause[1] == ("mark", 0)]
+        self.assertEqual(clauses, [((("seal", 1),), ("mark", 0))])
+
+    def test_a_name_and_a_term_once(self):
+        ledger = Ledger()
+        ledger.give(("a", 0), 5)
+        ledger.give(("a", 0), 6)
+        ledger.give(("b", 0), 5)
+        ledger.give(("c", 0), 6)
+        self.assertEqual((ledger.terms, ledger.names), ({("a", 0): 5, ("c", 0): 6}, {5: ("a", 0), 6: ("c", 0)}))
+
+
 class CopiesTest(WorldCase):
 
     def told(self, world):
@@ -427,8 +523,14 @@ class CopiesTest(WorldCase):
             two.go(40)
             self.assertEqual(self.told(world), before)
             after = self.told(two.world)
+            apart = two.world.copy()
             one.go(40)
             self.assertEqual(self.told(two.world), after)
+            for copy in (two.world, apart):
+                again = History(random.Random(seed), ("a", "b", "c"), True)
+                again.world = copy
+                again.go(40)
+            self.assertEqual(self.told(two.world), self.told(apart))
 
 
 class AskingTest(WorldCase):
