@@ -132,11 +132,9 @@ class Knower:
 
     def steps(self, term):
         """Steps that lead to a term, each of which is needed, or None if it is not known."""
-        self._book.kind(term)
-        made = made_of(self._book, self._reasons, (term,))
-        if term not in made:
+        if not self.knows(term):
             return None
-        origins = self._origins(made, term)
+        origins = self._origins(term)
         # What was opened was come to in the order of the reasons; what is made of it stands behind its parts.
         ordered = [led for led in self._reasons if led in origins]
         ordered.extend([led for led in sorted(origins) if led not in self._reasons])
@@ -208,7 +206,7 @@ class Knower:
                 found.append((whole, "build", self._book.parts(whole)))
         return found
 
-    def _origins(self, made, term):
+    def _origins(self, term):
         """The rule, and the terms that led there, of all terms on the way to one that can be made."""
         origins = {}
         waiting = [term]

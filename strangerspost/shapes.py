@@ -1,8 +1,8 @@
 """The terms that rooms are made of: contexts, cards, changes, welcomes and letters, put in and read."""
 
 from strangerspost.terms import (
-    chest_term, locked_by, lock_term, made_term, mark_term, name_term, number_term, print_term, row_term, told_named,
-    told_part, told_row,
+    chest_term, locked_by, lock_term, mark_term, name_term, number_term, print_term, row_term, told_named, told_part,
+    told_row,
 )
 
 

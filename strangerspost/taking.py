@@ -5,9 +5,7 @@ from strangerspost.changing import Coming, wished
 from strangerspost.errors import BadWish, TreeFull
 from strangerspost.keyrings import EpochKeys, PathKeys
 from strangerspost.members import Epoch, Room
-from strangerspost.shapes import (
-    joiner_term, next_trail, told_change, told_context, told_letter, told_welcome, told_words,
-)
+from strangerspost.shapes import next_trail, told_change, told_context, told_letter, told_welcome, told_words
 from strangerspost.terms import lock_term, locked_by, made_term, print_term
 from strangerspost.trees import kept_nodes, meeting, members, path, tree_of
 from strangerspost.words import is_word
@@ -118,8 +116,7 @@ def path_keys(book, room, change):
 def take_change(world, room, change, keys, coming):
     """The member of a room comes to the epoch of a change, with the keys that it got."""
     book, tree = world.book, coming.told_tree
-    root = keys.root
-    epoch_keys = coming.epoch_keys(book, room.chain, root)
+    epoch_keys = coming.epoch_keys(book, room.chain, keys.root)
     world.ledger.change(change.letter, keys)
     nodes = kept_nodes(tree)
     above = path(tree, room.leaf)
@@ -142,7 +139,7 @@ def take_change(world, room, change, keys, coming):
 
 def taken_letter(world, member, letter):
     """What comes of a letter of words."""
-    label, leaf, number = letter[0]
+    label, leaf = letter[0][:2]
     for room in member.joined.values():
         for epoch in room.epochs:
             # A leaf without a member has no row of keys, and nobody there writes letters.

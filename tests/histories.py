@@ -7,7 +7,7 @@ from strangerspost.members import Room
 from strangerspost.shapes import context_term, told_card, welcome_term
 from strangerspost.taking import Entry, come_to
 from strangerspost.terms import box_term, lock_term, name_term, print_term
-from strangerspost.trees import Tree, meeting, path, tree_term
+from strangerspost.trees import Tree, meeting, members, path, tree_term
 from strangerspost.world import World
 
 
@@ -169,9 +169,10 @@ class History:
         box = box_term(book, entry, content)
         self.made_up.append(box)
         own = Room(room, other, {(0, other): key})
-        # The room as the maker would hold it, from where changes of its own go on.
-        shadow = world.copy()
-        come_to(shadow, own, EpochKeys(book, joiner, None), Entry(book, context, term, tree), None)
+        # The room as the maker would hold it, from where changes of its own go on; a copy of the world takes the names.
+        keys, entered = EpochKeys(book, joiner, None), Entry(book, context, term, tree)
+        keys.first_turns(book, members(tree))
+        come_to(world.copy(), own, keys, entered, None)
         self.own_rooms.append((maker, own))
         return world.hand_term(box, name)
 
@@ -227,6 +228,20 @@ def sound(world):
                     return False
             if epoch.label != print_term(book, epoch.context) or len(room.epochs) != min(len(room.been), world.keep + 1):
                 return False
-            if [label for label, letter in room.been][-len(room.epochs):] != [epoch.label for epoch in room.epochs]:
+            labels = [label for label, letter in room.been]
+            if labels[-len(room.epochs):] != [one.label for one in room.epochs] or len(set(labels)) < len(labels):
+                return False
+            if [letter is None for label, letter in room.been] != [False] * (len(labels) - 1) + [True]:
+                return False
+            if room.pending is not None and room.pending[0] not in world.post():
+                return False
+            if not all([sound_turns(epoch) for epoch in room.epochs]):
                 return False
     return True
+
+
+def sound_turns(epoch):
+    """Whether an epoch has turns of just its members, and keys of lesser places alone."""
+    if sorted(epoch.turns) != list(members(epoch.told_tree)) or sorted(epoch.kept) != sorted(epoch.turns):
+        return False
+    return all([place < epoch.turns[leaf][0] for leaf in epoch.kept for place in epoch.kept[leaf]])

@@ -98,6 +98,14 @@ class LanguageTest(unittest.TestCase):
             within = [node for node in ast.walk(tree) if isinstance(node, (ast.Import, ast.ImportFrom))]
             self.assertEqual(len(within), len([node for node in tree.body if isinstance(node, ast.ImportFrom)]), path)
 
+    def test_all_imports_are_used(self):
+        for path, tree in trees():
+            used = [node.id for node in ast.walk(tree) if isinstance(node, ast.Name)]
+            for node in tree.body:
+                if isinstance(node, ast.ImportFrom):
+                    for alias in node.names:
+                        self.assertIn(alias.name, used, path)
+
     def defined(self, stem):
         names = []
         for node in ast.parse((PACKAGE / f"{stem}.py").read_text()).body:

@@ -6,11 +6,11 @@ from strangerspost import world as world_file
 from strangerspost.books import Book
 from strangerspost.changing import removals
 from strangerspost.errors import (
-    BadWish, BadWorld, Named, NoKind, NoLetter, NoName, NoParts, NoRoom, NoTerm, NoWords, PostError, Unknown,
+    BadWish, BadWorld, Named, NoKind, NoLetter, NoName, NoParts, NoRoom, NoTerm, NoWords, Unknown,
 )
 from strangerspost.trees import Tree
 from strangerspost.world import World
-from tests.histories import History
+from tests.histories import History, sound
 from tests.things import NO_TERMS, deep
 from tests.worlds import NO_WORDS, Hand, WorldCase, handed, joined, room_of, state
 
@@ -502,11 +502,12 @@ class CopyTest(WorldCase):
                 again.go(20)
             self.assertEqual(state(other), state(apart))
 
-    def test_no_deed_of_a_history_raises_anything_else(self):
+    def test_what_is_held_fits_together(self):
         # Errors of other kinds would come through: History catches those of the package alone.
-        for seed in range(20):
-            History(random.Random(seed), ("a", "b"), True).go(60)
-        self.assertTrue(issubclass(NoRoom, PostError))
+        for seed in range(60):
+            history = History(random.Random(seed), ("a", "b", "c"), seed % 3 > 0)
+            for _ in range(8):
+                self.assertTrue(sound(history.go(10)))
 
 
 if __name__ == "__main__":
