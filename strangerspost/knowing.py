@@ -124,7 +124,11 @@ class Knower:
     def knows(self, term):
         """Whether a term is known."""
         self._book.kind(term)
-        return term in made_of(self._book, self._reasons, (term,))
+        return term in self.known_among((term,))
+
+    def known_among(self, terms):
+        """The dict of True for those of some terms that are known, and for others that are made on the way to them."""
+        return made_of(self._book, self._reasons, terms)
 
     def opened(self):
         """The ascending tuple of all terms that are known and stand within a learned one."""

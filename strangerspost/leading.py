@@ -12,6 +12,7 @@ class Leading:
 
     def __init__(self, book, openly, secrets):
         self.book = book
+        self.secrets = secrets
         self.bits = {term: 1 << at for at, term in enumerate(secrets)}
         near = book.within(list(openly.bag()) + list(secrets))
         # All that is opened openly, or can be made of it, needs no lot.
@@ -23,7 +24,20 @@ class Leading:
             self.add_ways(known, term)
         self.lots = {term: [self.bits[term]] for term in secrets}
         self.leads = {term: [] for term in secrets}
-        self.follow(secrets)
+        self.follow()
+
+    def lots_to(self, term):
+        """The least lots that lead to a secret term: lists of terms, in the order of the secret ones."""
+        return [self.terms_of(lot) for lot in self.leads[term]]
+
+    def terms_of(self, lot):
+        """The terms of a lot."""
+        found = []
+        while lot > 0:
+            lowest = lot & -lot
+            found.append(self.secrets[lowest.bit_length() - 1])
+            lot = lot - lowest
+        return found
 
     def add_ways(self, known, term):
         """Adds the ways by which a term is made, and those by which others are read from it."""
@@ -42,9 +56,9 @@ class Leading:
             self.uses.setdefault(part, []).append(len(self.ways))
         self.ways.append((tuple(lacking), term))
 
-    def follow(self, secrets):
+    def follow(self):
         """Goes on along all ways until no new lot is found."""
-        waiting = list(secrets)
+        waiting = self.secrets
         while waiting:
             behind = {}
             for part in waiting:

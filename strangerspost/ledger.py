@@ -81,10 +81,10 @@ class Ledger:
             self.give(("words", len(self.messages)), words)
         self.messages.append(words)
 
-    def theft(self, store, unknown):
-        """Tells of a store that is stolen; of its terms some are not known to all."""
+    def theft(self, store, openly):
+        """Tells of a store that is stolen; some of its terms are known openly."""
         for term in store:
-            if term in unknown and term not in self.names:
+            if term not in openly and term not in self.names:
                 self.terms[("other", self.other_count)] = term
                 self.names[term] = ("other", self.other_count)
                 self.other_count += 1

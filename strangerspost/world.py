@@ -117,8 +117,7 @@ class World:
     def steal(self, member):
         """Steals the store of a member: the tuple of its terms."""
         store = self._member(member).store()
-        unknown = {term: True for term in store if not self.openly.knows(term)}
-        self.ledger.theft(store, unknown)
+        self.ledger.theft(store, self.openly.known_among(store))
         for term in store:
             self.knower.learn(term)
         return store

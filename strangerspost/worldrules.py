@@ -22,16 +22,15 @@ def term_of(world, name):
 
 def rule_of(world):
     """The rule of which names hold of which others; ground 0 has the open ones, the next ones the thefts'."""
-    told = world.ledger.names
-    openly = [name for name in names(world) if world.openly.knows(term_of(world, name))]
-    opened = {name: True for name in openly}
-    secrets = [term_of(world, name) for name in names(world) if name not in opened]
+    told, terms = world.ledger.names, world.ledger.terms
+    opened = world.openly.known_among(list(told))
+    openly = [name for name in names(world) if terms[name] in opened]
+    secrets = [terms[name] for name in names(world) if terms[name] not in opened]
     leading = Leading(world.book, world.openly, secrets)
     clauses = []
     for term in secrets:
-        for lot in leading.leads[term]:
-            body = tuple([told[secrets[at]] for at in range(len(secrets)) if lot >> at & 1 == 1])
-            clauses.append((body, told[term]))
+        # The secret ones stand in the order of their names, so what is told of a lot is ascending.
+        clauses.extend([(tuple([told[part] for part in lot]), told[term]) for lot in leading.lots_to(term)])
     grounds = [tuple(openly)]
     for store in world.ledger.thefts:
         grounds.append(tuple(sorted([told[term] for term in store if term in told])))
@@ -44,7 +43,8 @@ def rule_of(world):
 
 def known(world):
     """The ascending list of the names whose terms the stranger knows."""
-    return [name for name in names(world) if world.knower.knows(term_of(world, name))]
+    found = world.knower.known_among(list(world.ledger.names))
+    return [name for name in names(world) if world.ledger.terms[name] in found]
 
 
 def theft_rule(world, name):
