@@ -43,8 +43,6 @@ def come_to(world, room, keys, coming, letter):
     room.come(epoch, keys.chain, keys.seal, letter, world.keep)
 
 
-# Letters of changes.
-
 def taken_change(world, member, change):
     """What comes of a change's letter."""
     now = [room for room in member.joined.values() if room.own().label == change.label]
@@ -135,8 +133,6 @@ def take_change(world, room, change, keys, coming):
     come_to(world, room, epoch_keys, coming, change.letter)
 
 
-# Letters of words.
-
 def taken_letter(world, member, letter):
     """What comes of a letter of words."""
     label, leaf = letter[0][:2]
@@ -185,8 +181,6 @@ def turned(book, at, turn, number):
         found.append((place, key, turn))
     return found
 
-
-# Welcomes.
 
 def entry_card(book, member, term):
     """The card of a member whose entry's key opens a box, or None."""

@@ -48,8 +48,6 @@ class World:
             self.ledger.give(("mark", at), self.held[name].marks)
             self._tell(lock_term(self.book, self.held[name].marks))
 
-    # Deeds of members.
-
     def card(self, member):
         """Hands in a card of a member: its number in the post."""
         holder = self._member(member)
@@ -127,8 +125,6 @@ class World:
         holder = self._room(member, room)[0]
         del holder.joined[room]
 
-    # Deeds of the stranger.
-
     def fresh(self):
         """A fresh term of the stranger's own."""
         term = self.book.fresh()
@@ -163,8 +159,6 @@ class World:
         if words is None:
             self._tell(term)
         return self._hand_in_letter(holder, joined, made_term(self.book, "key", turn), words, term), term
-
-    # What there is.
 
     def store(self, member):
         """The ascending tuple of all terms that a member holds."""
@@ -214,8 +208,6 @@ class World:
         other.openly = self.openly.copy(other.book)
         other.held = {name: self.held[name].copy() for name in self.names}
         return other
-
-    # What deeds have in common.
 
     def _member(self, member):
         if not isinstance(member, str) or member not in self.held:
