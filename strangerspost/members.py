@@ -63,8 +63,9 @@ class Room:
         """Comes to an epoch by a letter, and lets go of what was kept of the epochs further back."""
         if self.been:
             self.been[-1] = (self.been[-1][0], letter)
-        self.been.append((epoch.label, None))
-        self.epochs.append(epoch)
+        # Only by an image can it have been told to have been there: what it remembers of that is told anew.
+        self.been = [pair for pair in self.been if pair[0] != epoch.label] + [(epoch.label, None)]
+        self.epochs = [elder for elder in self.epochs if elder.label != epoch.label] + [epoch]
         self.epochs = self.epochs[-1 - keep:]
         self.chain, self.seal = chain, seal
         self.pending = None

@@ -138,9 +138,12 @@ def told_letter(book, term):
 
 
 def told_words(book, term, marks, place):
-    """The words that what was in a chest tells, marked with this key for this place, or None."""
+    """The words that what was in a chest tells, marked with this key for this place, or None.
+
+    The key is None where nobody of the world is at the place.
+    """
     key, content = told_mark(book, term)
-    parts = None if key != marks else told_named(book, content, "words", 5)
+    parts = None if key is None or key != marks else told_named(book, content, "words", 5)
     if parts is None or parts[0] != place[0]:
         return None
     numbers = (told_part(book, "number", parts[1]), told_part(book, "number", parts[2]))

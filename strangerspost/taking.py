@@ -43,12 +43,18 @@ def come_to(world, room, keys, coming, letter):
     room.come(epoch, keys.chain, keys.seal, letter, world.keep)
 
 
+def ordered_rooms(member):
+    """The list of the rooms of a member, by their names."""
+    return [member.joined[name] for name in sorted(member.joined)]
+
+
 def taken_change(world, member, change):
     """What comes of a change's letter."""
-    now = [room for room in member.joined.values() if room.own().label == change.label]
+    rooms = ordered_rooms(member)
+    now = [room for room in rooms if room.own().label == change.label]
     if now:
         return judged_change(world, member, now[0], change)
-    for room in member.joined.values():
+    for room in rooms:
         for label, letter in room.been:
             if label == change.label:
                 return refused("old" if letter == change.letter else "fork")
@@ -96,7 +102,8 @@ def path_keys(book, room, change):
     """The keys that a box of a change, or the pending change, gives the member of a room, or None."""
     height = len(change.boxes)
     if room.pending is not None and room.pending[0] == change.letter:
-        return PathKeys(book, 0, room.pending[1], height)
+        keys = PathKeys(book, 0, room.pending[1], height)
+        return keys if keys.locks == change.locks else None
     # The keys of the own leaf are made of p(0), which no box has.
     if room.leaf == change.leaf:
         return None
@@ -136,7 +143,7 @@ def take_change(world, room, change, keys, coming):
 def taken_letter(world, member, letter):
     """What comes of a letter of words."""
     label, leaf = letter[0][:2]
-    for room in member.joined.values():
+    for room in ordered_rooms(member):
         for epoch in room.epochs:
             # A leaf without a member has no row of keys, and nobody there writes letters.
             if epoch.label == label and leaf in epoch.turns:
@@ -144,32 +151,46 @@ def taken_letter(world, member, letter):
     return refused("unlike")
 
 
+class Opening:
+    """How a letter of words for an epoch that is kept opens, of a leaf with a member there; nothing is let go of."""
+
+    def __init__(self, world, epoch, letter):
+        place, key, content = letter
+        leaf, number = place[1], place[2]
+        at, turn = epoch.turns[leaf]
+        # The keys that are made on the way, each with its place and the turn behind it.
+        self.made = []
+        self.words = None
+        self.why = None
+        right = epoch.kept[leaf].get(number)
+        if number < at and right is None:
+            self.why = "gone"
+        elif number > at + world.window:
+            self.why = "far"
+        elif number >= at:
+            self.made = turned(world.book, at, turn, number)
+            right = self.made[-1][1]
+        if self.why is None and key != right:
+            self.why = "chest"
+        if self.why is None:
+            marks = world.marks_keys().get(epoch.told_tree.leaves[leaf][0])
+            self.words = told_words(world.book, content, marks, place)
+            self.why = "mark" if self.words is None else None
+
+
 def opened_letter(world, room, epoch, letter):
     """What comes of a letter of words for an epoch that is kept, of a leaf with a member there."""
-    book, (place, key, content) = world.book, letter
-    leaf, number = place[1], place[2]
-    at, turn = epoch.turns[leaf]
-    if number < at:
-        if number not in epoch.kept[leaf]:
-            return refused("gone")
-        made, right = [], epoch.kept[leaf][number]
-    elif number > at + world.window:
-        return refused("far")
-    else:
-        made = turned(book, at, turn, number)
-        right = made[-1][1]
-    if key != right:
-        return refused("chest")
-    words = told_words(book, content, world.marks_keys()[epoch.told_tree.leaves[leaf][0]], place)
-    if words is None:
-        return refused("mark")
-    for at, made_key, behind in made:
-        world.ledger.turn("key", epoch.number, leaf, at, made_key)
+    leaf, number = letter[0][1:]
+    opening = Opening(world, epoch, letter)
+    if opening.why is not None:
+        return refused(opening.why)
+    for at, key, behind in opening.made:
+        world.ledger.turn("key", epoch.number, leaf, at, key)
         world.ledger.turn("turn", epoch.number, leaf, at + 1, behind)
-        epoch.kept[leaf][at] = made_key
+        epoch.kept[leaf][at] = key
         epoch.turns[leaf] = (at + 1, behind)
     del epoch.kept[leaf][number]
-    return "words", room.name, leaf, words
+    return "words", room.name, leaf, opening.words
 
 
 def turned(book, at, turn, number):

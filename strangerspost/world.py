@@ -50,7 +50,7 @@ class World:
 
     def card(self, member):
         """Hands in a card of a member: its number in the post."""
-        holder = self._member(member)
+        holder = self.holder(member)
         key, entry = self.book.fresh(), self.book.fresh()
         number = self._hand_in_card(holder, key, entry)
         holder.cards.append((number, key, entry))
@@ -58,7 +58,7 @@ class World:
 
     def found(self, member, room):
         """Founds a room of a member alone: the number of what is handed in."""
-        holder = self._member(member)
+        holder = self.holder(member)
         if not is_word(room):
             raise NoName()
         if room in holder.joined:
@@ -77,7 +77,7 @@ class World:
 
     def change(self, member, room, wishes):
         """Hands in a change and its welcomes: the tuple of their numbers; it is pending at the member."""
-        holder, joined = self._room(member, room)
+        holder, joined = self.holding(member, room)
         plan = self._plan(joined, wishes)
         start = self.book.fresh()
         made = Made(self.book, holder.marks, joined, plan, start)
@@ -86,7 +86,7 @@ class World:
 
     def write(self, member, room, words):
         """Hands in a letter of words, None for a fresh term: the pair of its number and the words' term."""
-        holder, joined = self._room(member, room)
+        holder, joined = self.holding(member, room)
         self._check_words(words)
         term = self._words(words)
         epoch, leaf = joined.own(), joined.leaf
@@ -99,14 +99,14 @@ class World:
 
     def hand(self, number, member):
         """Hands what lies in the post to a member: what comes of it."""
-        holder = self._member(member)
+        holder = self.holder(member)
         if not is_below(len(self.posted), number):
             raise NoLetter()
         return taken(self, holder, self.posted[number])
 
     def hand_term(self, term, member):
         """Hands a term that the stranger knows to a member: what comes of it."""
-        holder = self._member(member)
+        holder = self.holder(member)
         if not self.knower.knows(term):
             raise Unknown()
         self._tell(term)
@@ -114,7 +114,7 @@ class World:
 
     def steal(self, member):
         """Steals the store of a member: the tuple of its terms."""
-        store = self._member(member).store()
+        store = self.holder(member).store()
         self.ledger.theft(store, self.openly.known_among(store))
         for term in store:
             self.knower.learn(term)
@@ -122,7 +122,7 @@ class World:
 
     def leave(self, member, room):
         """A member lets go of all of a room."""
-        holder = self._room(member, room)[0]
+        holder = self.holding(member, room)[0]
         del holder.joined[room]
 
     def fresh(self):
@@ -133,14 +133,14 @@ class World:
 
     def card_as(self, member):
         """Hands in a card that the stranger makes in the place of a member: its number in the post."""
-        holder = self._member(member)
+        holder = self.holder(member)
         self._check_known((holder.marks,))
         key, entry = self.fresh(), self.fresh()
         return self._hand_in_card(holder, key, entry)
 
     def change_as(self, member, room, wishes):
         """Hands in a change that the stranger makes in the place of a member: the tuple of the numbers."""
-        holder, joined = self._room(member, room)
+        holder, joined = self.holding(member, room)
         plan = self._plan(joined, wishes)
         epoch = joined.own()
         self._check_known((holder.marks, joined.seal, epoch.context, epoch.tree, joined.chain))
@@ -148,7 +148,7 @@ class World:
 
     def write_as(self, member, room, words):
         """Hands in a letter that the stranger writes in the place of a member: its number and the words' term."""
-        holder, joined = self._room(member, room)
+        holder, joined = self.holding(member, room)
         self._check_words(words)
         epoch = joined.own()
         turn = epoch.turns[joined.leaf][1]
@@ -162,17 +162,17 @@ class World:
 
     def store(self, member):
         """The ascending tuple of all terms that a member holds."""
-        return self._member(member).store()
+        return self.holder(member).store()
 
     def view(self, member, room):
         """The number of a member's epoch in a room, its context, tree and seal, and the own leaf."""
-        joined = self._room(member, room)[1]
+        joined = self.holding(member, room)[1]
         epoch = joined.own()
         return told_context(self.book, epoch.context)[1], epoch.context, epoch.told_tree, joined.seal, joined.leaf
 
     def rooms(self, member):
         """The ascending list of the names of a member's rooms."""
-        return sorted(self._member(member).joined)
+        return sorted(self.holder(member).joined)
 
     def post(self):
         """The list of all that was handed in."""
@@ -209,13 +209,15 @@ class World:
         other.held = {name: self.held[name].copy() for name in self.names}
         return other
 
-    def _member(self, member):
+    def holder(self, member):
+        """The Member of a name."""
         if not isinstance(member, str) or member not in self.held:
             raise NoName()
         return self.held[member]
 
-    def _room(self, member, room):
-        holder = self._member(member)
+    def holding(self, member, room):
+        """The Member of a name, and what it holds of a room."""
+        holder = self.holder(member)
         if not isinstance(room, str) or room not in holder.joined:
             raise NoRoom()
         return holder, holder.joined[room]

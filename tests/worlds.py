@@ -23,7 +23,7 @@ def state(world):
     return (
         [(book.kind(term), book.parts(term)) for term in range(book.size())], world.post(), world.bag(), held,
         dict(world.ledger.terms), list(world.ledger.thefts), list(world.ledger.messages), world.ledger.card_count,
-        [[(room.pending, room.been) for room in member.joined.values()] for member in world.held.values()],
+        [[(room.pending, room.been) for name, room in sorted(member.joined.items())] for member in world.held.values()],
         [member.cards for member in world.held.values()],
     )
 
