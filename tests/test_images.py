@@ -72,7 +72,7 @@ class ByHandTest(ImageCase):
         world, cards, joining, further, last = told_world()
         hand, post = Hand(world), world.post()
         b, a = world.held["b"], world.held["a"]
-        used, unused, other = [world.book_now().parts(world.book_now().parts(post[card])[1]) for card in cards]
+        one, _, other = [world.book_now().parts(world.book_now().parts(post[card])[1]) for card in cards]
         book = world.book_now()
 
         def lock_key(lock):
@@ -89,7 +89,7 @@ class ByHandTest(ImageCase):
         expected += ["room s 0", f"key 0 0 {key}", f"chain {hand.made('chain', epoch_key)} {hand.made('seal', epoch_key)}"]
         expected += [f"been {hand.print(context)} -", f"epoch {context} {tree}", f"turn 0 0 {hand.turn(0, 0, epoch_key)}"]
         self.assertEqual(context, hand.context("s", 0, tree, hand.name("begin")))
-        expected += [f"member a {a.marks}", f"card {cards[0]} {lock_key(used[2])} {lock_key(used[3])}"]
+        expected += [f"member a {a.marks}", f"card {cards[0]} {lock_key(one[2])} {lock_key(one[3])}"]
         expected += ["room r 1"] + founded["a"]
         self.assertEqual(world.book_now(), book)
         lines = lines_of(world)
@@ -124,7 +124,7 @@ def plain_views(world, post, joining, further):
     again.change("b", "r", (("add", 1),))
     one = plain_change(again, "b", "r", (("add", post[1]),), start, chain)
     handed(again, joining)
-    chain, second, start = again.held["a"].joined["r"].chain, again.view("a", "r"), again.book_now().size()
+    chain, start = again.held["a"].joined["r"].chain, again.book_now().size()
     again.change("a", "r", ())
     two = plain_change(again, "a", "r", (), start, chain)
     # The same deeds gave the same numbers, and so these terms are those of the world.
