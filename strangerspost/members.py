@@ -22,11 +22,14 @@ class Epoch:
         other.kept = {leaf: dict(self.kept[leaf]) for leaf in self.kept}
         return other
 
+    def row_terms(self):
+        """The list of all turns and kept keys."""
+        turns = [turn for place, turn in self.turns.values()]
+        return turns + [key for keys in self.kept.values() for key in keys.values()]
+
     def held_terms(self):
         """The list of all terms that are kept of the epoch."""
-        turns = [turn for place, turn in self.turns.values()]
-        kept = [key for keys in self.kept.values() for key in keys.values()]
-        return [self.context, self.tree] + turns + kept
+        return [self.context, self.tree] + self.row_terms()
 
 
 class Room:

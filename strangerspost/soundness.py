@@ -12,8 +12,8 @@ def first_broken(world):
 
     Of each epoch the label and the tree are there, or None where its context and its tree's term tell none.
     """
-    for at, sentence in enumerate(SENTENCES):
-        holds = sentence
+    for at in range(len(SENTENCES)):
+        holds = SENTENCES[at]
         if not holds(world):
             return at + 1
     return None

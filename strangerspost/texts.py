@@ -65,8 +65,13 @@ def pieces(book, term):
 
 def quoted(text):
     """The text of the name of a text."""
+    return "name " + in_quotes(text)
+
+
+def in_quotes(text):
+    """A text between quotes, with a backslash ahead of each backslash and quote in it."""
     signs = text.replace("\\", "\\\\").replace('"', '\\"')
-    return f'name "{signs}"'
+    return f'"{signs}"'
 
 
 def read_term(book, text):
