@@ -73,6 +73,7 @@ class IsExprTest(unittest.TestCase):
             self.assertIs(is_expr(thing), False, thing)
             for word in ("row", "made", "lock", "box", "chest", "mark", "print", "part", "name", "number", "post", "mine"):
                 right = thing == () and word == "row" or thing == (NAME,) and word in ("row", "lock", "print")
+                right = right or (word, thing) == ("name", ("name",))
                 self.assertIs(is_expr((word, thing)), right)
                 self.assertIs(is_expr((thing, (NAME,))), False)
 
