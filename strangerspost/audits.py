@@ -44,9 +44,8 @@ def labels_of(world, member, room):
 
 def behind(world, member, room):
     """The tuple of the numbers of the changes that a member would take, the least first each time."""
-    world.holding(member, room)
     trial = world.copy()
-    holder = trial.holder(member)
+    holder = trial.holding(member, room)[0]
     found = []
     number = next_taken(trial, holder, room)
     while number is not None:
@@ -67,7 +66,6 @@ def next_taken(trial, holder, room):
 
 def readable(world, member, room):
     """The lot of the numbers of the letters of a room that a member could open just now."""
-    world.holding(member, room)
     # Keys are made on the way.
     trial = world.copy()
     joined = trial.holding(member, room)[1]

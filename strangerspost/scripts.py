@@ -146,9 +146,7 @@ def is_part(kind, thing):
 
 def is_wish(thing):
     """Whether a thing is a wish, of a number of any size."""
-    if not is_pair(thing) or not isinstance(thing[0], str):
-        return False
-    return thing[0] in WISHES and is_below(NUMBER_BOUND, thing[1])
+    return is_pair(thing) and thing[0] in WISHES and is_below(NUMBER_BOUND, thing[1])
 
 
 def row_line(row):

@@ -200,8 +200,7 @@ def is_pending(book, room, posted):
     change = told_change(book, letter)
     if change is None or change.leaf != room.leaf or change.label != room.own().label or letter not in posted:
         return False
-    key = locked_by(book, change.locks[0])
-    return key is not None and made_key(book, "node", key) == start
+    return made_key(book, "node", locked_by(book, change.locks[0])) == start
 
 
 def has_come(world):

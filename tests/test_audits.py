@@ -10,7 +10,7 @@ from strangerspost.knowing import learner
 from strangerspost.shapes import told_change, told_letter
 from strangerspost.world import World
 from tests.histories import History
-from tests.worlds import NO_WORDS, WorldCase, handed, joined, room_of
+from tests.worlds import NO_WORDS, Hand, WorldCase, handed, joined, room_of
 
 
 class AuditCase(WorldCase):
@@ -337,6 +337,21 @@ class ReadableTest(AuditCase):
         world.hand(true, "a")
         self.assertEqual(self.readable(world, "a"), ())
         self.assertEqual(self.readable(world, "b"), ())
+
+    def test_for_a_blank_leaf(self):
+        # Such a letter is made up, and lies in the post of an image.
+        world = room_of("abc")
+        handed(world, world.change("a", "r", (("remove", 1),)))
+        hand = Hand(world)
+        epoch_key = world.book_now().parts(world.held["a"].joined["r"].chain)[1]
+        label, key = world.held["a"].joined["r"].own().label, hand.made("key", hand.turn(1, 0, epoch_key))
+        letter = hand.letter(label, 1, 0, key, world.held["b"].marks, hand.name("hi"))
+        lines = world_image(world).split("\n")
+        at = [at for at, line in enumerate(lines) if line.startswith("bag ")][0]
+        lines[at:at + 1] = [f"post {letter}", f"{lines[at]} {letter}"]
+        other = restored("\n".join(lines))
+        self.assertEqual(other.hand(len(world.post()), "a"), ("refused", "unlike"))
+        self.assertEqual((self.readable(other, "a"), self.behind(other, "a")), ((), ()))
 
     def test_of_another_room(self):
         world = room_of("ab")

@@ -431,6 +431,14 @@ class TurnsTest(SentenceCase):
         rows = self.lines()
         self.taken(replaced(rows, rows.index(lines[at], kinds(rows, "member")[0]), f"turn 0 5 {right}"))
 
+    def test_of_one_alone(self):
+        world = World(("a",), 0, 0)
+        world.found("a", "r")
+        self.world = world
+        line = self.line("turn")
+        for place, turn in ((0, 0), (1, int(line.split(" ")[3])), (0, world.held["a"].joined["r"].chain)):
+            self.unsound(7, self.edited((line, f"turn 0 {place} {turn}")))
+
     def test_letters_keys(self):
         hand = self.hand
         other = self.world.book.fresh()
