@@ -2,6 +2,7 @@
 
 from strangerspost.books import Book, carried
 from strangerspost.booktexts import read_terms, term_lines
+from strangerspost.errors import BadImage
 from strangerspost.lines import Lines
 from strangerspost.memberlines import member_rows, read_member, row_line
 
@@ -30,6 +31,5 @@ def thief(text):
     needless = [term for term in range(book.size()) if term not in needed]
     if needless:
         # The lines of terms are the first ones.
-        lines.at = needless[0]
-        lines.check(False)
+        raise BadImage(needless[0] + 1)
     return book, member.store()
